@@ -1,0 +1,1 @@
+"""Yes and no told by the signs of polynomials."""
