@@ -1,5 +1,7 @@
 """Small things that several modules need."""
 
+LAST_SWITCH = 5
+
 
 def is_whole(thing):
     """Whether anything is a whole number; a truth is none."""
@@ -22,3 +24,15 @@ def power_of_two(k):
 def on_in(row, k):
     """1 where switch k is on in the row, else 0."""
     return row // power_of_two(k) % 2
+
+
+def greatest_part(numbers):
+    """The greatest whole number that parts all of the numbers; 0 where none of them is above or below 0."""
+    found = 0
+    for number in numbers:
+        rest = abs(number)
+        while rest != 0:
+            over = found % rest
+            found = rest
+            rest = over
+    return found

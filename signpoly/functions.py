@@ -25,3 +25,8 @@ def switches_of(f):
 def told_rows(f):
     """The rows of the function that are told, rising."""
     return tuple([row for row, value in enumerate(f) if value is not None])
+
+
+def sign_at(f, row):
+    """The sign of a told row: 1 for yes, -1 for no."""
+    return 1 if f[row] == 1 else -1

@@ -1,11 +1,10 @@
 """Rules: yes and no said in words of switches, and the functions that they tell."""
 
-from signpoly.basics import is_within, on_in, power_of_two
+from signpoly.basics import LAST_SWITCH, is_within, on_in, power_of_two
 
 MOST_DEEP = 6
 MOST_RULES = 40
 MOST_PARTS = 6
-LAST_SWITCH = 5
 GREATEST_LEAST = 9
 
 

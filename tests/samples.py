@@ -89,3 +89,31 @@ def is_plain_within(thing):
     if type(thing) is tuple:
         return all(is_plain_within(part) for part in thing)
     return thing is None or type(thing) in (int, str)
+
+
+KINDS = ("both", "odd")
+
+
+def term_value(kind, term, row):
+    """The value of a term at a row, as the document says it."""
+    many = sum(1 for k in term if on(row, k))
+    if kind == "both":
+        return 1 if many == len(term) else 0
+    return -1 if many % 2 == 1 else 1
+
+
+def poly_value(poly, row):
+    """The value of a polynomial at a row, as the document says it."""
+    return sum(number * term_value(poly[0], term, row) for term, number in poly[1])
+
+
+def polys_of(kind, switches=6, many=8, greatest=9):
+    """Polynomials of the kind: without parts, of one part, of some, of all terms, with small and great numbers."""
+    chance = random.Random(100 * switches + greatest % 97 + many)
+    every = sorted(subsets(switches))
+    some = [(kind, ()), (kind, (((), 1),)), (kind, (((), -3),)), (kind, ((every[-1], 2),))]
+    some.append((kind, tuple((term, chance.choice((-1, 1)) * chance.randint(1, greatest)) for term in every)))
+    for _ in range(many):
+        terms = sorted(chance.sample(every, chance.randint(0, min(len(every), 9))))
+        some.append((kind, tuple((term, chance.choice((-1, 1)) * chance.randint(1, greatest)) for term in terms)))
+    return some
