@@ -1,4 +1,5 @@
 import random
+import signal
 import unittest
 
 from samples import told_twice
@@ -25,6 +26,15 @@ def twisted_cube(n):
 
 
 class Mosts(unittest.TestCase):
+    def setUp(self):
+        """A way of going on that comes round is a failure, not a wait without end."""
+        def give_up(number, frame):
+            raise AssertionError("no answer is told")
+        before = signal.signal(signal.SIGALRM, give_up)
+        self.addCleanup(signal.signal, signal.SIGALRM, before)
+        self.addCleanup(signal.alarm, 0)
+        signal.alarm(300)
+
     def are_whole(self, numbers, length):
         self.assertIs(type(numbers), tuple)
         self.assertEqual(len(numbers), length)
@@ -117,6 +127,23 @@ class Mosts(unittest.TestCase):
         self.greatest(((-2, -9, 1, 9), (1, 3, -1, -6), (2, 3, -1, -12)), (0, 0, 2), (2, 3, -1, -12), 2)
         self.assertEqual(self.check(((1, -11, -5, 18), (1, -3, -1, 2)), (0, 0), (10, -57, -9, -24)), "beyond")
         self.assertEqual(self.check(((-2, -9, 1, 9), (1, 3, -1, -6)), (0, 0), (2, 3, -1, -12)), "beyond")
+
+    def test_cases_that_come_round_where_ties_are_weighed_wrongly(self):
+        cases = (
+            (((-5, 3, 3, -2), (-4, -6, 3, 3), (-4, -2, 6, 4)), (-2, 1, 3, 6)),
+            (((12, 1, 8, 11, -7), (-3, 7, -5, -12, -8), (-3, 10, -4, -6, -10), (12, -5, -3, -4, -12)), (3, 3, -1, 6, -5)),
+            (((7, 11, 8, 9, 8, -12), (6, -3, 7, -9, -5, -10), (-2, -12, -2, 0, -9, 9), (8, -11, 11, -11, 4, 9)),
+             (-5, -5, 12, -10, -2, -5)),
+            (((-10, -12, 8, 1, -7, -5), (-9, 4, -11, -1, -9, -4), (-4, -7, 9, 3, 12, -6)), (-4, -11, -2, 2, -1, 0)),
+            (((-1, 2, 1, 2, -2, -2, 1), (1, -2, 0, -1, -1, -2, 2), (-2, 1, 1, -1, 2, 2, 2), (2, 2, 1, 0, 1, 0, -2)),
+             (0, -1, 1, 0, -2, 0, 2)),
+            (((6, 0, -3, -2, -1, -3, 2), (6, 6, -4, 6, 3, 5, 3), (6, 4, 0, 6, 6, 6, -2), (-2, -3, -1, -2, -1, -6, 3)),
+             (2, -4, -2, -5, -1, -1, 5)),
+        )
+        for rows, gains in cases:
+            bounded = rows + ((1,) * len(gains),)
+            self.assertEqual(self.check(bounded, (0,) * len(rows) + (1,), gains), "most")
+            self.check(rows, (0,) * len(rows), gains)
 
     def test_many_choices_that_tie(self):
         chance = random.Random(7)
