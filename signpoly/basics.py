@@ -13,6 +13,13 @@ def is_within(thing, low, high):
     return is_whole(thing) and low <= thing <= high
 
 
+def are_amounts(thing, many):
+    """Whether anything is a tuple of so many whole numbers from 0 on."""
+    if not isinstance(thing, tuple) or len(thing) != many:
+        return False
+    return all([is_whole(number) and number >= 0 for number in thing])
+
+
 def power_of_two(k):
     """Two times itself, k times; the number of the row in which switch k alone is on."""
     power = 1
@@ -36,3 +43,16 @@ def greatest_part(numbers):
             found = rest
             rest = over
     return found
+
+
+def lowered(numbers):
+    """The numbers parted by the greatest whole number that parts all of them."""
+    shared = greatest_part(numbers)
+    if shared == 0:
+        return tuple(numbers)
+    return tuple([number // shared for number in numbers])
+
+
+def products_together(numbers, others):
+    """The sum of the products of the numbers, each with the one in its place among the others."""
+    return sum([number * other for number, other in zip(numbers, others)])

@@ -1,14 +1,15 @@
 """The exact polynomials of full functions: those whose values are the signs."""
 
-from signpoly.functions import sign_at, switches_of, told_rows
+from signpoly.functions import switches_of, told_rows
 from signpoly.polys import degree_of, poly_from
 from signpoly.reckoning import other_kind, parted
-from signpoly.terms import terms_to, value_of
+from signpoly.signs import signed_value
+from signpoly.terms import terms_to
 
 
 def sum_by(f, kind, term):
     """The signs of the told rows times the term's values, together."""
-    return sum([sign_at(f, row) * value_of(kind, term, row) for row in told_rows(f)])
+    return sum([signed_value(f, kind, term, row) for row in told_rows(f)])
 
 
 def exact_by_odd(f):

@@ -1,6 +1,6 @@
 """The greatest sum of gains within bounds, with prices that show it, or a way on which there is no greatest."""
 
-from signpoly.basics import greatest_part
+from signpoly.basics import greatest_part, lowered
 
 
 class Table:
@@ -126,8 +126,7 @@ def way_of(table, column):
             way[name] = -table.lines[place][column]
     if table.free[column] < table.amounts:
         way[table.free[column]] = table.part
-    shared = greatest_part(way)
-    return tuple([number // shared for number in way])
+    return lowered(way)
 
 
 def amounts_of(table):

@@ -4,6 +4,7 @@ from signpoly.basics import power_of_two
 from signpoly.errors import OnNought
 from signpoly.functions import sign_at, told_rows
 from signpoly.polys import value_at
+from signpoly.terms import value_of
 
 
 def sign_of(number):
@@ -35,3 +36,13 @@ def told_by(poly, n):
 def tells(poly, f):
     """Whether at each told row the sign of the polynomial's value is that of the row."""
     return all([value_at(poly, row) * sign_at(f, row) > 0 for row in told_rows(f)])
+
+
+def signed_value(f, kind, term, row):
+    """The sign of a told row times the term's value there."""
+    return sign_at(f, row) * value_of(kind, term, row)
+
+
+def signed_values(f, kind, terms):
+    """For each told row, its sign times the value of each of the terms there."""
+    return [[signed_value(f, kind, term, row) for term in terms] for row in told_rows(f)]

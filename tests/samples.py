@@ -117,3 +117,130 @@ def polys_of(kind, switches=6, many=8, greatest=9):
         terms = sorted(chance.sample(every, chance.randint(0, min(len(every), 9))))
         some.append((kind, tuple((term, chance.choice((-1, 1)) * chance.randint(1, greatest)) for term in terms)))
     return some
+
+
+def told_in(f):
+    """The rows that are told, each with its sign, as the document says it."""
+    return [(row, 1 if value == 1 else -1) for row, value in enumerate(f) if value is not None]
+
+
+def weighted_sum(f, kind, term, weights):
+    """The weighted sum of a term, as the document says it."""
+    return sum(weights[row] * sign * term_value(kind, term, row) for row, sign in told_in(f))
+
+
+def some_terms(n, chance):
+    """Terms of n switches: none, the one without a switch, some, all to each size."""
+    every = sorted(subsets(n))
+    choices = [(), ((),), every[-1:]]
+    choices += [chance.sample(every, chance.randint(0, len(every))) for _ in range(2)]
+    choices += [[term for term in every if len(term) <= size] for size in range(n + 1)]
+    return [tuple(sorted(terms)) for terms in choices]
+
+
+def choose(chance, things, many):
+    """So many of the things, all where they are fewer."""
+    return chance.sample(things, min(many, len(things)))
+
+
+def otherwise(thing):
+    """The thing with one place of it, or itself, otherwise, each in turn."""
+    yield from (None, True, False, 0, 1, "", "odd", "most", (), [thing], (thing,), Prickly(), tower(40))
+    if type(thing) is int:
+        yield from (thing + 1, thing - 1, -thing, 2 * thing, str(thing), thing + 10 ** 25)
+        if thing in (0, 1):
+            yield thing == 1
+    if type(thing) is str:
+        yield from (thing + "s", thing.upper(), thing.encode(), "both", "beyond", "bar", "poly")
+    if type(thing) is tuple:
+        yield from (list(thing), thing + thing[-1:], thing + (0,), thing + (None,), thing[::-1], dict.fromkeys(range(len(thing))))
+        for place, part in enumerate(thing):
+            yield thing[:place] + thing[place + 1:]
+            yield thing[:place] + (part, part) + thing[place + 1:]
+            yield thing[:place] + thing[place:place + 2][::-1] + thing[place + 2:]
+            for other in otherwise(part):
+                yield thing[:place] + (other,) + thing[place + 1:]
+
+
+def is_row(thing, many):
+    """Whether it is a tuple of so many whole numbers from 0 on."""
+    return type(thing) is tuple and len(thing) == many and all(type(number) is int and number >= 0 for number in thing)
+
+
+def is_tuple_of(thing, many):
+    return type(thing) is tuple and len(thing) == many
+
+
+def is_sound_poly(kind, terms, thing):
+    """Whether it is a polynomial of the kind, of these terms alone."""
+    if not is_tuple_of(thing, 2) or type(thing[0]) is not str or thing[0] != kind or type(thing[1]) is not tuple:
+        return False
+    found = []
+    for part in thing[1]:
+        if not is_tuple_of(part, 2) or type(part[0]) is not tuple or type(part[1]) is not int or part[1] == 0:
+            return False
+        if not all(type(k) is int for k in part[0]) or part[0] not in terms:
+            return False
+        found.append(part[0])
+    return found == sorted(set(found))
+
+
+def are_sound_weights(f, thing):
+    """Whether it is weights of the function."""
+    return is_row(thing, len(f)) and all(number == 0 for number, value in zip(thing, f) if value is None)
+
+
+def is_sound_bar(f, kind, terms, thing):
+    """Whether it is a bar, as the document says it."""
+    return (are_sound_weights(f, thing) and sum(thing) > 0
+            and all(weighted_sum(f, kind, term, thing) == 0 for term in terms))
+
+
+def is_sound_split(f, kind, terms, thing):
+    """Whether it is a split, as the document says it."""
+    if not is_tuple_of(thing, 2) or not is_sound_poly(kind, terms, thing[0]) or not are_sound_weights(f, thing[1]):
+        return False
+    values = [(sign * poly_value(thing[0], row), thing[1][row]) for row, sign in told_in(f)]
+    return (all(value >= 0 for value, weight in values)
+            and all(weighted_sum(f, kind, term, thing[1]) == 0 for term in terms)
+            and all((value != 0) + (weight != 0) == 1 for value, weight in values))
+
+
+def does_tell(poly, f):
+    """Whether the polynomial tells the function."""
+    return all(sign * poly_value(poly, row) > 0 for row, sign in told_in(f))
+
+
+def terms_below(n, size):
+    """All terms of n switches of fewer than so many switches."""
+    return [term for term in subsets(n) if len(term) < size]
+
+
+def is_sound_degree(f, kind, thing):
+    """Whether it is (degree, poly, bar), as the document says it."""
+    n = len(f).bit_length() - 1
+    if not is_tuple_of(thing, 3) or type(thing[0]) is not int or not is_sound_poly(kind, subsets(n), thing[1]):
+        return False
+    if max([len(term) for term, number in thing[1][1]], default=0) != thing[0] or not does_tell(thing[1], f):
+        return False
+    return thing[2] is None if thing[0] == 0 else is_sound_bar(f, kind, terms_below(n, thing[0]), thing[2])
+
+
+def is_sound_weak(f, kind, thing):
+    """Whether it is (degree, poly, weights) of the weak degree, as the document says it."""
+    n = len(f).bit_length() - 1
+    if not is_tuple_of(thing, 3) or type(thing[0]) is not int or not is_sound_poly(kind, subsets(n), thing[1]):
+        return False
+    values = [sign * poly_value(thing[1], row) for row, sign in told_in(f)]
+    if max([len(term) for term, number in thing[1][1]], default=0) != thing[0] or min(values) < 0 or max(values) == 0:
+        return False
+    if thing[0] == 0:
+        return thing[2] is None
+    return (is_sound_bar(f, kind, terms_below(n, thing[0]), thing[2])
+            and all(thing[2][row] > 0 for row, sign in told_in(f)))
+
+
+def functions_by_number(n, values=(0, 1, None)):
+    """All functions of n switches with these values."""
+    for number in range(len(values) ** 2 ** n):
+        yield tuple(values[number // len(values) ** row % len(values)] for row in range(2 ** n))
