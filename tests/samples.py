@@ -1,6 +1,9 @@
 """Inputs that several tests share, and the meaning of rows, written apart from the program."""
 
 import copy
+import fractions
+import itertools
+import math
 import random
 
 
@@ -162,6 +165,12 @@ def otherwise(thing):
                 yield thing[:place] + (other,) + thing[place + 1:]
 
 
+def strange_weights():
+    """Things in the place of weights of one or two rows, some of which are weights."""
+    for thing in STRANGE + [(1, 1), (1,), (1, 0), (0, 1), (True,), (True, True), [1], [1, 1], ((1,), (1,))]:
+        yield from (thing, (thing,), (thing, thing), (1, thing), [thing])
+
+
 def is_row(thing, many):
     """Whether it is a tuple of so many whole numbers from 0 on."""
     return type(thing) is tuple and len(thing) == many and all(type(number) is int and number >= 0 for number in thing)
@@ -244,3 +253,98 @@ def functions_by_number(n, values=(0, 1, None)):
     """All functions of n switches with these values."""
     for number in range(len(values) ** 2 ** n):
         yield tuple(values[number // len(values) ** row % len(values)] for row in range(2 ** n))
+
+
+def is_sound_widest(f, kind, terms, thing):
+    """Whether it is (value, poly, weights) of the widest margin, as the document says it."""
+    if not is_tuple_of(thing, 3) or not is_tuple_of(thing[0], 2) or not all(type(part) is int for part in thing[0]):
+        return False
+    top, bottom = thing[0]
+    if bottom < 1 or top < 0 or math.gcd(top, bottom) != 1 or not are_sound_weights(f, thing[2]) or not any(thing[2]):
+        return False
+    if any(abs(weighted_sum(f, kind, term, thing[2])) * bottom > top * sum(thing[2]) for term in terms):
+        return False
+    if top == 0:
+        return thing[1] is None
+    if not is_sound_poly(kind, terms, thing[1]) or thing[1][1] == ():
+        return False
+    numbers = [number for term, number in thing[1][1]]
+    return math.gcd(*numbers) == 1 and margin(f, thing[1]) == fractions.Fraction(top, bottom)
+
+
+def margin(f, poly):
+    """The margin of a polynomial with a part, as the document says it."""
+    size = sum(abs(number) for term, number in poly[1])
+    return min(fractions.Fraction(sign * poly_value(poly, row), size) for row, sign in told_in(f))
+
+
+def is_sound_fewest(f, kind, thing):
+    """Whether it is (poly, bars) of the fewest terms, as the document says it."""
+    every = sorted(subsets(len(f).bit_length() - 1))
+    if not is_tuple_of(thing, 2) or not is_sound_poly(kind, every, thing[0]) or not does_tell(thing[0], f):
+        return False
+    parts = len(thing[0][1])
+    asked = [] if parts == 0 else list(itertools.combinations(every, parts - 1))
+    if not is_tuple_of(thing[1], len(asked)):
+        return False
+    for terms, pair in zip(asked, thing[1]):
+        if not is_tuple_of(pair, 2) or not is_tuple_of(pair[0], len(terms)):
+            return False
+        for one, other in zip(pair[0], terms):
+            if not is_row(one, len(other)) or one != other:
+                return False
+        if not is_sound_bar(f, kind, terms, pair[1]):
+            return False
+    return True
+
+
+def is_sound_leaf(f, kind, terms, size, leaf, nodes):
+    """Whether a leaf shows, by the nodes (number of a term, v, whether by one) of its way, what the document says."""
+    if not is_tuple_of(leaf, 5) or not are_sound_weights(f, leaf[1]) or type(leaf[4]) is not int or leaf[4] < 0:
+        return False
+    if not is_row(leaf[2], len(terms)) or not is_row(leaf[3], len(terms)):
+        return False
+    together = sum(leaf[1])
+    for j, term in enumerate(terms):
+        least = max([v + 1 for number, v, by_one in nodes if number == j and not by_one], default=None)
+        most = min([v for number, v, by_one in nodes if number == j and by_one], default=None)
+        if (least is None and leaf[2][j] != 0) or (most is None and leaf[3][j] != 0):
+            return False
+        together += leaf[2][j] * (least or 0) - leaf[3][j] * (most or 0)
+        if abs(weighted_sum(f, kind, term, leaf[1]) + leaf[2][j] - leaf[3][j]) > leaf[4]:
+            return False
+    return together > leaf[4] * (size - 1)
+
+
+def is_sound_tree(f, kind, terms, size, tree, nodes=()):
+    """Whether a tree shows that no numbers of size - 1 or less tell the function, as the document says it."""
+    if type(tree) is not tuple or len(tree) == 0 or type(tree[0]) is not str:
+        return False
+    if tree[0] == "leaf":
+        return is_sound_leaf(f, kind, terms, size, tree, nodes)
+    if tree[0] != "part" or len(tree) != 5 or type(tree[1]) is not int or type(tree[2]) is not int:
+        return False
+    if not 0 <= tree[1] < len(terms):
+        return False
+    return (is_sound_tree(f, kind, terms, size, tree[3], nodes + ((tree[1], tree[2], True),))
+            and is_sound_tree(f, kind, terms, size, tree[4], nodes + ((tree[1], tree[2], False),)))
+
+
+def by_counts(n, values):
+    """The function that tells values[c] where c of n switches are on."""
+    return tuple(values[bin(row).count("1")] for row in range(2 ** n))
+
+
+def look_alike_otherwise(case, looker, sound, papers):
+    """Checks that the looker takes, of papers with one place otherwise, just those that are sound.
+
+    papers are pairs: the arguments ahead of the paper, and the paper.
+    """
+    told = {True: 0, False: 0}
+    for arguments, paper in papers:
+        for thing in otherwise(paper):
+            shown = looker(*arguments, thing)
+            case.assertIs(shown, sound(*arguments, thing), (arguments, thing))
+            told[shown] += 1
+    case.assertGreater(told[True], 50)
+    case.assertGreater(told[False], 1000)

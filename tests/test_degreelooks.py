@@ -1,8 +1,8 @@
 import random
 import unittest
 
-from samples import (KINDS, STRANGE, functions_by_number, functions_of, is_sound_degree, is_sound_weak, otherwise,
-                     told_in, told_twice)
+from samples import (KINDS, STRANGE, functions_by_number, functions_of, is_sound_degree, is_sound_weak,
+                     look_alike_otherwise, told_in, told_twice)
 from signpoly.degreelooks import shows_degree, shows_weak
 from signpoly.degrees import least_degree, weak_degree
 from signpoly.polys import poly_from
@@ -120,16 +120,9 @@ class DegreeLooks(unittest.TestCase):
                             self.assertIs(looker(f, kind, (other, poly, given)), False)
 
     def test_one_place_otherwise(self):
+        cases = [(f, kind) for f in functions(3) for kind in KINDS if len(f) < 16]
         for looker, teller, sound in LOOKERS:
-            told = {True: 0, False: 0}
-            for f in [f for f in functions(3) if len(f) < 16]:
-                for kind in KINDS:
-                    for thing in otherwise(teller(f, kind)):
-                        shown = looker(f, kind, thing)
-                        self.assertIs(shown, sound(f, kind, thing), (f, kind, thing))
-                        told[shown] += 1
-            self.assertGreater(told[True], 50)
-            self.assertGreater(told[False], 1000)
+            look_alike_otherwise(self, looker, sound, [(case, teller(*case)) for case in cases])
 
     def test_chance_polynomials_and_weights(self):
         chance = random.Random(4)

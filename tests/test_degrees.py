@@ -1,16 +1,12 @@
 import random
 import unittest
 
-from samples import KINDS, functions_by_number, functions_of, is_sound_degree, is_sound_weak, told_in, told_twice
+from samples import (KINDS, by_counts, functions_by_number, functions_of, is_sound_degree, is_sound_weak, told_in,
+                     told_twice)
 from signpoly.degrees import least_degree, weak_degree
 from signpoly.moves import held, idle, left_out, opposite, renamed, turned
 from signpoly.splits import solved
 from signpoly.terms import terms_to
-
-
-def by_counts(n, values):
-    """The function that tells values[c] where c of n switches are on."""
-    return tuple(values[bin(row).count("1")] for row in range(2 ** n))
 
 
 def functions():

@@ -1,8 +1,8 @@
 import random
 import unittest
 
-from samples import (KINDS, STRANGE, choose, functions_of, is_sound_bar, is_sound_split, otherwise, some_terms, subsets,
-                     term_value, told_in, told_twice, tower, weighted_sum)
+from samples import (KINDS, STRANGE, choose, functions_of, is_sound_bar, is_sound_split, look_alike_otherwise, some_terms,
+                     strange_weights, subsets, term_value, told_in, told_twice, tower, weighted_sum)
 from signpoly.reckoning import added, often, other_kind
 from signpoly.splitlooks import barred_to, is_bar, shows_split, weighted
 from signpoly.splits import solved, split_of
@@ -147,14 +147,7 @@ class ShowsSplit(unittest.TestCase):
                 self.shows(f, kind, terms, (poly, tuple(5 * left + right for left, right in zip(weights, one[1]))))
 
     def test_what_is_told_with_one_place_otherwise(self):
-        told = {True: 0, False: 0}
-        for f, kind, terms in cases(2, 3, 8):
-            for thing in otherwise(split_of(f, kind, terms)):
-                shown = shows_split(f, kind, terms, thing)
-                self.assertIs(shown, is_sound_split(f, kind, terms, thing), (f, kind, terms, thing))
-                told[shown] += 1
-        self.assertGreater(told[True], 100)
-        self.assertGreater(told[False], 1000)
+        look_alike_otherwise(self, shows_split, is_sound_split, [(case, split_of(*case)) for case in cases(2, 3, 8)])
 
     def test_chance_things(self):
         chance = random.Random(9)
@@ -206,23 +199,16 @@ class Bars(unittest.TestCase):
         self.assertIs(is_bar((0, 1), "odd", ((0,),), (1, 0)), False)
 
     def test_one_place_otherwise(self):
-        told = {True: 0, False: 0}
-        for f, kind, terms in cases(3, 3, 11):
-            answer = solved(f, kind, terms)
-            for thing in otherwise(answer[1]):
-                shown = is_bar(f, kind, terms, thing)
-                self.assertIs(shown, is_sound_bar(f, kind, terms, thing), (f, kind, terms, thing))
-                told[shown] += 1
-            self.assertIs(is_bar(f, kind, terms, answer[1]), answer[0] == "bar")
-            self.assertIs(told_twice(self, is_bar, f, kind, terms, (0,) * len(f)), False)
-        self.assertGreater(told[True], 100)
-        self.assertGreater(told[False], 1000)
+        answers = [(case, solved(*case)) for case in cases(3, 3, 11)]
+        look_alike_otherwise(self, is_bar, is_sound_bar, [(case, answer[1]) for case, answer in answers])
+        for case, answer in answers:
+            self.assertIs(told_twice(self, is_bar, *case, answer[1]), answer[0] == "bar")
+            self.assertIs(is_bar(*case, (0,) * len(case[0])), False)
 
     def test_anything(self):
         for f, kind, terms in (((1,), "odd", ()), ((1, None), "both", ()), ((1, 0), "odd", ((),)), ((None,), "both", ())):
-            for thing in STRANGE + [(1, 1), (1,), (1, 0), (0, 1), (True,), (True, True), [1], [1, 1], ((1,), (1,))]:
-                for filled in (thing, (thing,), (thing, thing), (1, thing), [thing]):
-                    self.assertIs(is_bar(f, kind, terms, filled), is_sound_bar(f, kind, terms, filled), filled)
+            for thing in strange_weights():
+                self.assertIs(is_bar(f, kind, terms, thing), is_sound_bar(f, kind, terms, thing), thing)
         self.assertIs(is_bar((1,) * 64, "odd", (), tower(6)), False)
         self.assertIs(is_bar((1,) * 64, "odd", (), (0,) * 63 + (1,)), True)
 

@@ -2,7 +2,8 @@ import math
 import random
 import unittest
 
-from samples import KINDS, STRANGE, choose, functions_of, is_sound_bar, otherwise, some_terms, told_twice
+from samples import (KINDS, choose, functions_of, is_sound_bar, look_alike_otherwise, some_terms, strange_weights,
+                     told_twice)
 from signpoly.moves import left_out
 from signpoly.splits import solved
 from signpoly.terms import terms_to
@@ -118,20 +119,14 @@ class Thinning(unittest.TestCase):
         self.assertGreater(found, 50)
 
     def test_one_place_otherwise(self):
-        told = {True: 0, False: 0}
-        for f, kind, terms, bar in barred_cases(2, 3, 6):
-            for thing in list(otherwise(bar)) + list(otherwise(thinned(f, kind, terms, bar))):
-                shown = is_thin(f, kind, terms, thing)
-                self.assertIs(shown, is_sound(f, kind, terms, thing), (f, kind, terms, thing))
-                told[shown] += 1
-        self.assertGreater(told[True], 50)
-        self.assertGreater(told[False], 1000)
+        papers = [((f, kind, terms), bar) for f, kind, terms, bar in barred_cases(2, 3, 6)]
+        papers += [(case, thinned(*case, bar)) for case, bar in papers]
+        look_alike_otherwise(self, is_thin, is_sound, papers)
 
     def test_anything(self):
         for f, kind, terms in (((1,), "odd", ()), ((1, None), "both", ()), ((1, 0), "odd", ((),)), ((None,), "both", ())):
-            for thing in STRANGE + [(1, 1), (1,), (1, 0), (0, 1), (True,), (True, True), [1], [1, 1], ((1,), (1,))]:
-                for filled in (thing, (thing,), (thing, thing), (1, thing), [thing]):
-                    self.assertIs(is_thin(f, kind, terms, filled), is_sound(f, kind, terms, filled), filled)
+            for thing in strange_weights():
+                self.assertIs(is_thin(f, kind, terms, thing), is_sound(f, kind, terms, thing), thing)
 
 
 if __name__ == "__main__":
