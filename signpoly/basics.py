@@ -56,3 +56,24 @@ def lowered(numbers):
 def products_together(numbers, others):
     """The sum of the products of the numbers, each with the one in its place among the others."""
     return sum([number * other for number, other in zip(numbers, others)])
+
+
+def how_many_choices(many, taken):
+    """In how many ways so many things can be taken of many."""
+    ways = 1
+    for k in range(taken):
+        ways = ways * (many - k) // (k + 1)
+    return ways
+
+
+def with_bound(bounds, place, bound):
+    """The bounds with this one in the place."""
+    return bounds[:place] + (bound,) + bounds[place + 1:]
+
+
+def multiplied(numbers):
+    """The product of all of the numbers, 1 of none."""
+    product = 1
+    for number in numbers:
+        product = product * number
+    return product

@@ -1,18 +1,11 @@
 """The looker for the fewest terms."""
 
+from signpoly.basics import how_many_choices
 from signpoly.functions import switches_of
 from signpoly.polys import is_term
 from signpoly.signs import tells
 from signpoly.splitlooks import is_bar, is_poly_by
 from signpoly.terms import terms_to
-
-
-def how_many_choices(many, taken):
-    """In how many ways so many things can be taken of many."""
-    ways = 1
-    for k in range(taken):
-        ways = ways * (many - k) // (k + 1)
-    return ways
 
 
 def are_rising(things):

@@ -1,5 +1,6 @@
 """The least size of a polynomial of whole numbers that tells a function, with a tree of cases that shows it."""
 
+from signpoly.basics import with_bound
 from signpoly.functions import told_rows
 from signpoly.mosts import most_of
 from signpoly.polys import poly_from
@@ -10,11 +11,6 @@ from signpoly.splits import one_at, solved, weights_by
 def bounded(bounds):
     """The places that have a bound, rising."""
     return [place for place, bound in enumerate(bounds) if bound is not None]
-
-
-def with_bound(bounds, place, bound):
-    """The bounds with this one in the place."""
-    return bounds[:place] + (bound,) + bounds[place + 1:]
 
 
 def weighed(values, lows, highs):

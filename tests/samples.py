@@ -330,6 +330,14 @@ def is_sound_tree(f, kind, terms, size, tree, nodes=()):
             and is_sound_tree(f, kind, terms, size, tree[4], nodes + ((tree[1], tree[2], False),)))
 
 
+def is_sound_size(f, kind, terms, thing):
+    """Whether it is (poly, tree) of the least size, as the document says it."""
+    if not is_tuple_of(thing, 2) or not is_sound_poly(kind, terms, thing[0]) or not does_tell(thing[0], f):
+        return False
+    size = sum(abs(number) for term, number in thing[0][1])
+    return is_tuple_of(thing[1], 0) if size == 0 else is_sound_tree(f, kind, terms, size, thing[1])
+
+
 def by_counts(n, values):
     """The function that tells values[c] where c of n switches are on."""
     return tuple(values[bin(row).count("1")] for row in range(2 ** n))
