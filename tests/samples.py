@@ -94,6 +94,30 @@ def is_plain_within(thing):
     return thing is None or type(thing) in (int, str)
 
 
+def some_rule(chance, deep):
+    """A rule by chance, nested at most so deep, and how many rules it is."""
+    word = chance.choice(("switch", "not", "all", "any", "odd", "least"))
+    if word == "switch" or (word == "not" and deep == 1):
+        return ("switch", chance.randrange(6)), 1
+    if word == "not":
+        inner, many = some_rule(chance, deep - 1)
+        return ("not", inner), many + 1
+    parts = [] if deep == 1 else [some_rule(chance, deep - 1) for _ in range(chance.randint(0, 6))]
+    head = ("least", chance.randint(0, 9)) if word == "least" else (word,)
+    return head + (tuple(part for part, many in parts),), sum(many for part, many in parts) + 1
+
+
+def some_rules(seed, many):
+    """So many rules by chance, of at most forty rules each."""
+    chance = random.Random(seed)
+    found = []
+    while len(found) < many:
+        rule, size = some_rule(chance, chance.randint(1, 6))
+        if size <= 40:
+            found.append(rule)
+    return found
+
+
 KINDS = ("both", "odd")
 
 
@@ -336,6 +360,35 @@ def is_sound_size(f, kind, terms, thing):
         return False
     size = sum(abs(number) for term, number in thing[0][1])
     return is_tuple_of(thing[1], 0) if size == 0 else is_sound_tree(f, kind, terms, size, thing[1])
+
+
+def is_sound_alone(f, kind, terms, thing):
+    """Whether it is ("alone", poly) or ("other", numbers, part), as the document says it."""
+    if type(thing) is not tuple or len(thing) == 0 or type(thing[0]) is not str:
+        return False
+    if thing[0] == "alone":
+        return len(thing) == 2 and is_sound_poly(kind, terms, thing[1]) and does_tell(thing[1], f)
+    if thing[0] != "other" or len(thing) != 3 or type(thing[2]) is not int or thing[2] < 1:
+        return False
+    numbers, part = thing[1:]
+    if not is_tuple_of(numbers, len(f)) or not all(type(number) is int and abs(number) <= part for number in numbers):
+        return False
+    signs = [2 * value - 1 for value in f]
+    if list(numbers) == [part * sign for sign in signs]:
+        return False
+    for term in terms:
+        values = [term_value(kind, term, row) for row in range(len(f))]
+        if sum(map(math.prod, zip(numbers, values))) != part * sum(map(math.prod, zip(signs, values))):
+            return False
+    return True
+
+
+def full_functions(n, seed=0):
+    """Full functions of n switches: all of few, the constant ones and some by chance of more."""
+    if n < 3:
+        return list(functions_by_number(n, (0, 1)))
+    chance = random.Random(100 * n + seed)
+    return [(0,) * 2 ** n, (1,) * 2 ** n] + [tuple(chance.choice((0, 1)) for _ in range(2 ** n)) for _ in range(8)]
 
 
 def by_counts(n, values):

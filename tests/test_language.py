@@ -2,6 +2,7 @@
 
 import ast
 import builtins
+import functools
 import os
 import re
 import unittest
@@ -39,7 +40,9 @@ def sources():
     return {name: os.path.join(FOLDER, name) for name in sorted(os.listdir(FOLDER)) if name != "__pycache__"}
 
 
+@functools.cache
 def parsed():
+    """The text and the tree of each file, by name."""
     told = {}
     for name, path in sources().items():
         with open(path, encoding="utf-8", newline="") as file:
@@ -189,6 +192,65 @@ class Language(unittest.TestCase):
             ready = [name for name in draws if name not in done and all(part in done for part in draws[name])]
             self.assertTrue(ready, "files draw from one another")
             done += ready
+
+    def test_the_top_of_a_file(self):
+        for name, (text, tree) in parsed().items():
+            above = []
+            for place, node in enumerate(tree.body):
+                if isinstance(node, (ast.FunctionDef, ast.ClassDef)):
+                    above.append(node.name)
+                elif isinstance(node, ast.Assign):
+                    self.assertIsInstance(node.targets[0], ast.Name, name)
+                    for part in ast.walk(node.value):
+                        self.assertIsInstance(part, (ast.Constant, ast.Tuple, ast.List, ast.Dict, ast.Name, ast.Load), name)
+                        if isinstance(part, ast.Name):
+                            self.assertIn(part.id, above, name)
+                        if isinstance(part, (ast.List, ast.Dict)):
+                            self.assertIs(part, node.value, name)
+                elif isinstance(node, ast.Expr):
+                    self.assertEqual(place, 0, name)
+                else:
+                    self.assertIsInstance(node, ast.ImportFrom, name)
+
+    def test_lists_and_dicts_of_the_top_are_only_read(self):
+        kept = set()
+        for name, (text, tree) in parsed().items():
+            kept.update(node.targets[0].id for node in tree.body
+                        if isinstance(node, ast.Assign) and isinstance(node.value, (ast.List, ast.Dict)))
+        for where, node in self.each_node(ast.Name):
+            if node.id not in kept or isinstance(node.ctx, ast.Store):
+                continue
+            above = node.above
+            read = isinstance(above, ast.Subscript) and above.value is node and isinstance(above.ctx, ast.Load)
+            asked = isinstance(above, ast.Compare) and node in above.comparators
+            got = isinstance(above, ast.Attribute) and above.attr in ("get", "items", "keys", "values")
+            self.assertTrue(read or asked or got, f"{where}: {node.id}")
+
+    def test_errors_are_made_and_taken_by_name(self):
+        own = {node.name for where, node in self.each_node(ast.ClassDef) if node.bases}
+        for where, node in self.each_node(ast.Raise, ast.ExceptHandler):
+            if isinstance(node, ast.Raise):
+                self.assertIsInstance(node.exc, ast.Call, where)
+                self.assertIn(node.exc.func.id, own, where)
+            else:
+                self.assertIsInstance(node.type, ast.Name, where)
+                self.assertIn(node.type.id, own | {"KeyError", "ZeroDivisionError"}, where)
+
+    def test_keywords(self):
+        allowed = {"sorted": ("key", "reverse"), "min": ("key", "default"), "max": ("key", "default"), "sum": ("start",),
+                   "enumerate": ("start",), "zip": ("strict",)}
+        for where, node in self.each_node(ast.Call):
+            if node.keywords:
+                self.assertIsInstance(node.func, ast.Name, where)
+                for keyword in node.keywords:
+                    self.assertIn(keyword.arg, allowed.get(node.func.id, ()), where)
+
+    def test_methods_and_values_of_objects(self):
+        methods = {node.name for where, node in self.each_node(ast.FunctionDef) if isinstance(node.above, ast.ClassDef)}
+        values = {node.attr for where, node in self.each_node(ast.Attribute) if isinstance(node.ctx, ast.Store)}
+        self.assertEqual(methods & values, set())
+        taken = set().union(*[dir(thing) for thing in ("", 0, [], {}, set(), b"", ())])
+        self.assertEqual((methods - {"__init__"} | values) & taken, set())
 
     def test_what_is_walked_at_once(self):
         for where, node in self.each_node(ast.Call):

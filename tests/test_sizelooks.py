@@ -183,6 +183,8 @@ class SizeLooks(unittest.TestCase):
         self.refuses(CUT_F, "odd", CUT_TERMS, (CUT_POLY, ("part", 0, -2, ("part", 0, -3, below, shut), above)))
         self.refuses(CUT_F, "odd", CUT_TERMS, (CUT_POLY, ("part", 0, 5, below, above)))
         self.refuses(CUT_F, "odd", CUT_TERMS, (CUT_POLY, ("part", 0, -9, below, above)))
+        self.refuses(CUT_F, "odd", CUT_TERMS, (CUT_POLY, ("part", 0, -9, below, ("part", 0, -3, below, above))))
+        self.refuses(CUT_F, "odd", CUT_TERMS, (CUT_POLY, ("part", 0, 5, ("part", 0, -1, below, above), above)))
 
     def test_a_shut_way_is_held_by_its_leaves(self):
         for leaf in (BELOW, ABOVE, ("leaf", (0,) * 8, FREE, FREE, 0), ("leaf", (1,) * 8, FREE, FREE, 0), (), None, "leaf",
